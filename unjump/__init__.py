@@ -1,0 +1,1 @@
+"""Unjump: programs of jumps told as programs of rounds."""
