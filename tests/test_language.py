@@ -123,7 +123,9 @@ CHECKS = {
     ast.AugAssign: check_sum,
     ast.arg: lambda node: [(hasattr(builtins, node.arg) or node.arg.startswith("_"), f"L15: {node.arg}")],
     ast.Assign: lambda node: [(len(node.targets) > 1, "L6: several targets")],
-    ast.For: lambda node: [(node.orelse, "L6: else behind a loop")],
+    ast.For: lambda node: check_for(node),
+    ast.Call: lambda node: check_call(node),
+    ast.FormattedValue: lambda node: [(node.format_spec or not isinstance(node.value, ast.Name), "L7: an f-string")],
     ast.While: lambda node: [(node.orelse, "L6: else behind a loop")],
     ast.Try: lambda node: [(node.finalbody, "L6: finally")],
     ast.Expr: lambda node: [(not isinstance(node.value, (ast.Call, ast.Constant)), "L6: an idle expression")],
@@ -131,6 +133,89 @@ CHECKS = {
     ast.ImportFrom: lambda node: [(node.level or not node.module.startswith("unjump."), "L2, L16: import")],
     ast.alias: lambda node: [(node.name == "*", "L2: import of all")],
 }
+
+
+WALKS = {"zip", "enumerate", "reversed", "range"}
+WALKERS = {"list", "tuple", "dict", "sorted", "sum", "any", "all", "enumerate", "zip", "min", "max"}
+KEYWORDS = {"sorted": {"key", "reverse"}, "min": {"key", "default"}, "max": {"key", "default"}, "sum": {"start"},
+            "enumerate": {"start"}, "zip": {"strict"}}
+CHANGES = {"append", "clear", "extend", "insert", "pop", "remove", "reverse", "setdefault", "update"}
+
+
+def called(node):
+    """The plain name that a call calls, or None."""
+    return node.func.id if isinstance(node, ast.Call) and isinstance(node.func, ast.Name) else None
+
+
+def method(node):
+    """The method that a call calls, or None."""
+    return node.func.attr if isinstance(node, ast.Call) and isinstance(node.func, ast.Attribute) else None
+
+
+def is_walked_at_once(node, parent):
+    if isinstance(parent, (ast.For, ast.comprehension)):
+        return parent.iter is node
+    if method(parent) == "join":
+        return isinstance(parent.func.value, ast.Constant)
+    if called(parent) == "zip":
+        return node in parent.args
+    return called(parent) in WALKERS and parent.args[0] is node
+
+
+def is_set_at_once(node, parent):
+    if isinstance(parent, ast.Compare):
+        return isinstance(parent.ops[0], (ast.Eq, ast.NotEq)) or parent.left is not node
+    return called(parent) in ("sorted", "len") and parent.args == [node] and not parent.keywords
+
+
+def faults_of_uses(tree):
+    """What a node breaks by where it stands."""
+    faults = []
+    for parent in ast.walk(tree):
+        for node in ast.iter_child_nodes(parent):
+            if called(node) in WALKS or method(node) in ("items", "keys", "values"):
+                faults += [] if is_walked_at_once(node, parent) else [f"L23: line {node.lineno} keeps a walk"]
+            if called(node) in ("set", "frozenset") or isinstance(node, ast.Set):
+                faults += [] if is_set_at_once(node, parent) else [f"L24: line {node.lineno} keeps a set"]
+            if isinstance(node, ast.Name) and node.id in OWN_NAMES and hasattr(builtins, node.id):
+                faults += faults_of_own_name(node, parent)
+    return faults
+
+
+def faults_of_own_name(node, parent):
+    """Python's own names are called; classes also stand by isinstance, as a base, or behind except."""
+    plain = isinstance(parent, ast.Call) and (parent.func is node or called(parent) == "isinstance")
+    plain = plain or isinstance(parent, (ast.keyword, ast.ClassDef, ast.ExceptHandler, ast.Tuple, ast.Raise))
+    return [] if plain else [f"L22: line {node.lineno} keeps {node.id}"]
+
+
+def check_call(node):
+    given = {keyword.arg for keyword in node.keywords}
+    of_python = called(node) is not None and hasattr(builtins, called(node)) or method(node) in OWN_METHODS
+    yield of_python and given - KEYWORDS.get(called(node), set()), f"L22: line {node.lineno} has a keyword"
+
+
+def check_for(node):
+    walked = {ast.unparse(node.iter)}
+    if isinstance(node.iter, ast.Call):
+        walked = {ast.unparse(thing) for thing in node.iter.args}
+        walked |= {ast.unparse(node.iter.func.value)} if method(node.iter) else set()
+        walked = walked if called(node.iter) in WALKS or method(node.iter) else set()
+    yield node.orelse, "L6: else behind a loop"
+    for inner in [inner for part in node.body for inner in ast.walk(part)]:
+        if method(inner) in CHANGES:
+            yield ast.unparse(inner.func.value) in walked, f"L23: line {inner.lineno} changes what is walked"
+        if isinstance(inner, ast.Subscript) and isinstance(inner.ctx, ast.Store):
+            yield ast.unparse(inner.value) in walked, f"L23: line {inner.lineno} changes what is walked"
+
+
+def faults_of_locals(tree):
+    """A local or a parameter that is called like an import or a class of its file."""
+    taken = [alias.asname or alias.name for node in tree.body if isinstance(node, ast.ImportFrom) for alias in node.names]
+    taken += [node.name for node in tree.body if isinstance(node, ast.ClassDef)]
+    names = [node.arg for node in ast.walk(tree) if isinstance(node, ast.arg)]
+    names += [node.id for node in ast.walk(tree) if isinstance(node, ast.Name) and isinstance(node.ctx, ast.Store)]
+    return [f"L15: {name} is an import or a class" for name in names if name in taken]
 
 
 def faults_of_top(tree):
@@ -152,7 +237,7 @@ def faults_of_top(tree):
 
 def faults_of(text):
     tree = ast.parse(text)
-    faults = faults_of_text(text) + faults_of_top(tree)
+    faults = faults_of_text(text) + faults_of_top(tree) + faults_of_uses(tree) + faults_of_locals(tree)
     for node in ast.walk(tree):
         faults += faults_of_node(node)
     return faults
@@ -198,7 +283,13 @@ class LanguageTest(unittest.TestCase):
             "def f(x):\n    try:\n        x()\n    except Exception:\n        pass", "x = '%'", "x = 'type'",
             "def f(x):\n    for k in x:\n        pass\n    else:\n        pass", "class A:\n    x = 1",
             "class A(B, C):\n    pass", "@f\ndef g():\n    pass", "x = '" + "a" * 120 + "'", "x = 1\n\ty = 2",
-            "def f():\n" + "    pass\n" * 40, "x = 1\n" * 401, "def f(x):\n    y = list(k for k in x)")
+            "def f():\n" + "    pass\n" * 40, "x = 1\n" * 401, "def f(x):\n    y = list(k for k in x)",
+            "def f(x):\n    y = set(x)", "def f(x):\n    for k in set(x):\n        pass", "def f(x):\n    return range(x)",
+            "def f(x, g):\n    g(range(x))", "def f(x):\n    y = x.items()", "def f(x):\n    y = len",
+            "def f(x):\n    return sum(x, key=1)", "def f(x):\n    return x.split(sep=1)", "def f(x):\n    return f'{x + 1}'",
+            "def f(x):\n    for k in x:\n        x.append(k)", "def f(x):\n    for k, y in enumerate(x):\n        x[k] = y",
+            "def f(x):\n    for k in x.items():\n        x.pop(k)", "from unjump.words import is_name\ndef f(is_name):\n    pass",
+            "from unjump.words import is_name\ndef f(x):\n    is_name = x", "class A:\n    pass\ndef f(A):\n    pass")
         for text in broken:
             with self.subTest(text=text[:60]):
                 self.assertTrue(self.is_refused(text))

@@ -3,7 +3,7 @@
 import unittest
 
 from unjump import errors
-from unjump.sums import holds, made, worth
+from unjump.sums import deed_of_sum, deed_of_test, holds, made, worth
 
 SIGNS = ("+", "-", "/", "rest", "&", "^")
 SIXTY = 10 ** 59
@@ -229,6 +229,22 @@ class WorthTest(unittest.TestCase):
         self.assertEqual(worth("a", {"a": 1}), 1)
         self.assertEqual(worth("a", {}), 0)
         self.assertEqual(worth("a", {"a": 2}), 2)
+
+
+class DeedTest(unittest.TestCase):
+    def test_sums(self):
+        self.assertEqual(deed_of_sum("z", "x", "-", "y", {"x": 5, "z": 9}), ("sum", "z", 5, "-", 0, 5))
+        self.assertRaises(errors.ByNought, deed_of_sum, "z", "x", "/", "y", {"x": 5})
+
+    def test_tests(self):
+        self.assertEqual(deed_of_test("x", "<", 6, {"x": 5}), ("test", 5, "<", 6, True))
+        self.assertEqual(deed_of_test("y", "=", 6, {"x": 5}), ("test", 0, "=", 6, False))
+
+    def test_the_memory_stays_as_it_was(self):
+        memory = {"x": 5}
+        deed_of_sum("x", "x", "+", 1, memory)
+        deed_of_test("y", "=", 6, memory)
+        self.assertEqual(memory, {"x": 5})
 
 
 if __name__ == "__main__":

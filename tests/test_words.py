@@ -2,7 +2,7 @@
 
 import unittest
 
-from unjump.words import is_name, read_number, read_operand, read_whole
+from unjump.words import is_name, read_number, read_operand, read_sum, read_test, read_whole, written_sum, written_test
 
 KEPT = ("if", "jump", "end", "rest", "round", "part", "leave", "again", "else", "done")
 LETTERS = "abcdefghijklmnopqrstuvwxyz"
@@ -146,6 +146,27 @@ class OperandTest(unittest.TestCase):
     def test_the_same_each_time(self):
         for word in ("x", "-7", "-0"):
             self.assertEqual(read_operand(word), read_operand(word))
+
+
+class SumAndTestTest(unittest.TestCase):
+    def test_sums(self):
+        for sign in ("+", "-", "/", "rest", "&", "^"):
+            self.assertEqual(read_sum(["x", "=", "y", sign, "-3"]), ("x", "y", sign, -3))
+            self.assertEqual(written_sum("x", "y", sign, -3), f"x = y {sign} -3")
+
+    def test_tests(self):
+        for sign in ("<", "="):
+            self.assertEqual(read_test(["4", sign, "x"]), (4, sign, "x"))
+            self.assertEqual(written_test(4, sign, "x"), f"if 4 {sign} x")
+
+    def test_what_is_no_sum(self):
+        for text in ("", "x", "x = 1 +", "x = 1 + 2 3", "1 = 1 + 2", "x < 1 + 2", "x = 1 < 2", "if = 1 + 2", "x = rest + 2",
+                     "x = 1 rest end", "x = 1  2", "x = 1 * 2"):
+            self.assertIsNone(read_sum(text.split(" ")))
+
+    def test_what_is_no_test(self):
+        for text in ("", "x", "x <", "x < 1 2", "x + 1", "if < 1", "1 = jump", "x  1", "x > 1"):
+            self.assertIsNone(read_test(text.split(" ")))
 
 
 if __name__ == "__main__":

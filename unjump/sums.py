@@ -1,4 +1,4 @@
-"""Sums and tests of whole numbers, and what an operand is worth."""
+"""Sums and tests of whole numbers, what an operand is worth, and the deeds of a run."""
 
 from unjump.errors import ByNought
 
@@ -40,3 +40,15 @@ def worth(operand, memory):
     if isinstance(operand, str):
         return memory.get(operand, 0)
     return operand
+
+
+def deed_of_sum(name, one, sign, other, memory):
+    a = worth(one, memory)
+    b = worth(other, memory)
+    return ("sum", name, a, sign, b, made(sign, a, b))
+
+
+def deed_of_test(one, sign, other, memory):
+    a = worth(one, memory)
+    b = worth(other, memory)
+    return ("test", a, sign, b, holds(sign, a, b))

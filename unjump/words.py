@@ -1,6 +1,6 @@
-"""The words of the texts: names, the numbers of rows, rounds and parts, and operands.
+"""The words of the texts: names, the numbers of rows, rounds and parts, operands, sums and tests.
 
-A function that reads a word tells None where the word isn't what it reads.
+A function that reads words tells None where they aren't what it reads.
 """
 
 LETTERS = "abcdefghijklmnopqrstuvwxyz"
@@ -9,6 +9,8 @@ KEPT = ("if", "jump", "end", "rest", "round", "part", "leave", "again", "else", 
 MOST_SIGNS_OF_NAME = 8
 MOST_FIGURES_OF_NUMBER = 4
 MOST_FIGURES_OF_OPERAND = 18
+SIGNS_OF_SUMS = ("+", "-", "/", "rest", "&", "^")
+SIGNS_OF_TESTS = ("<", "=")
 
 
 def is_name(word):
@@ -59,3 +61,34 @@ def are_figures(word, most):
 
 def is_made_of(word, signs):
     return all([sign in signs for sign in word])
+
+
+def read_sum(words):
+    if len(words) != 5 or words[1] != "=" or not is_name(words[0]):
+        return None
+    asked = read_asked(words[2:], SIGNS_OF_SUMS)
+    if asked is None:
+        return None
+    return (words[0],) + asked
+
+
+def read_test(words):
+    if len(words) != 3:
+        return None
+    return read_asked(words, SIGNS_OF_TESTS)
+
+
+def read_asked(words, signs):
+    one = read_operand(words[0])
+    other = read_operand(words[2])
+    if one is None or other is None or words[1] not in signs:
+        return None
+    return (one, words[1], other)
+
+
+def written_sum(name, one, sign, other):
+    return f"{name} = {one} {sign} {other}"
+
+
+def written_test(one, sign, other):
+    return f"if {one} {sign} {other}"

@@ -1,0 +1,272 @@
+"""What several files of tests need: things drawn without chance, and the document's words done the plainest way."""
+
+import copy
+
+SUM_SIGNS = ("+", "-", "/", "rest", "&", "^")
+TEST_SIGNS = ("<", "=")
+NAMES = ("x", "y", "z")
+
+
+class Draw:
+    """Numbers that look drawn, the same under every Python and in every run."""
+
+    def __init__(self, seed):
+        self.state = seed * 2654435761 % 2 ** 64 + 1
+
+    def below(self, count):
+        self.state = (self.state * 6364136223846793005 + 1442695040888963407) % 2 ** 64
+        return (self.state >> 33) % count
+
+    def one_of(self, things):
+        return things[self.below(len(things))]
+
+    def operand(self):
+        return self.one_of(NAMES) if self.below(2) else self.below(9) - 4
+
+    def asked(self, signs):
+        return (self.operand(), self.one_of(signs), self.operand())
+
+    def memory(self):
+        return {name: self.below(13) - 6 for name in NAMES if self.below(3)}
+
+    def rows(self, count):
+        numbers = []
+        for place in range(count):
+            numbers.append((numbers[-1] if numbers else -1) + 1 + self.below(3))
+        return [self.row(numbers, place) for place in range(count)]
+
+    def row(self, numbers, place):
+        kind = self.below(12) if place < len(numbers) - 1 else 9 + self.below(3)
+        if kind < 5:
+            return (numbers[place], "sum", self.one_of(NAMES)) + self.asked(SUM_SIGNS)
+        if kind < 9:
+            return (numbers[place], "test") + self.asked(TEST_SIGNS) + (self.one_of(numbers),)
+        if kind < 11:
+            return (numbers[place], "jump", self.one_of(numbers))
+        return (numbers[place], "end")
+
+    def graph(self, count, tests=6, ends=1, near=None):
+        """A graph of at most so many nodes; of ten about so many are tests, ends or spins; goals lie near, if asked."""
+        nodes = [self.node(place, count, tests, ends, near) for place in range(count)]
+        return renumbered(nodes)
+
+    def node(self, place, count, tests, ends, near):
+        kind = self.below(10)
+        if place and kind < ends:
+            return self.one_of([("end",), ("spin",)])
+        goals = [self.goal(place, count, near) for turn in range(2)]
+        if kind < ends + tests:
+            return ("test",) + self.asked(TEST_SIGNS) + tuple(goals)
+        return ("sum", self.one_of(NAMES)) + self.asked(SUM_SIGNS) + (goals[0],)
+
+    def goal(self, place, count, near):
+        if near is None:
+            return self.below(count)
+        return min(count - 1, max(0, place + 1 - near + self.below(2 * near)))
+
+
+def drawn_graphs(seed, count, least=1, most=40, **settings):
+    """So many graphs, of sizes between both bounds where the drawing comes to that many."""
+    draw = Draw(seed)
+    for turn in range(count):
+        yield draw.graph(least + draw.below(most - least + 1), **settings)
+
+
+def mixed_graphs(seed, count, most=40):
+    """Graphs of several makings: knotted ones, and ones that look more like programs."""
+    for near in (None, 2, 4, 8):
+        for tests, ends in ((8, 0), (6, 1), (3, 1)):
+            yield from drawn_graphs(seed + tests, count // 12 + 1, 1, most, tests=tests, ends=ends, near=near)
+
+
+def every_graph(count):
+    """Each shape of graph of just so many nodes, all of which can be come to, numbered as point [12] tells."""
+    seen = set()
+    kinds = [("end",), ("spin",)]
+    kinds += [("sum", "x", "x", "+", 1, goal) for goal in range(count)]
+    kinds += [("test", "x", "<", 3, yes, no) for yes in range(count) for no in range(count)]
+    stack = [()]
+    while stack:
+        nodes = stack.pop()
+        if len(nodes) < count:
+            stack.extend(nodes + (kind,) for kind in kinds)
+        else:
+            graph = tuple(renumbered(nodes))
+            if len(graph) == count and graph not in seen:
+                seen.add(graph)
+                yield list(graph)
+
+
+def goals_of(node):
+    return {"sum": node[5:], "test": node[4:], "end": (), "spin": ()}[node[0]]
+
+
+def with_goals(node, goals):
+    return node[:len(node) - len(goals)] + tuple(goals)
+
+
+def renumbered(nodes, start=0):
+    """The nodes that can be come to, numbered by the walk of point [12], as its words go."""
+    been, finished = set(), []
+
+    def walk(place):
+        been.add(place)
+        for goal in reversed(goals_of(nodes[place])):
+            if goal not in been:
+                walk(goal)
+        finished.append(place)
+
+    walk(start)
+    order = finished[::-1]
+    return [with_goals(nodes[place], [order.index(goal) for goal in goals_of(nodes[place])]) for place in order]
+
+
+def come_to(graph, start=0, left_out=()):
+    """All nodes that can be come to where some are left out."""
+    found, left = set(), [start]
+    while left:
+        place = left.pop()
+        if place not in found and place not in left_out:
+            found.add(place)
+            left.extend(goals_of(graph[place]))
+    return found
+
+
+def must(graph, one, other):
+    """Whether the one must be come through to come to the other, by leaving it out."""
+    return other not in come_to(graph, 0, (one,))
+
+
+def is_orderly(graph):
+    """Point [17] by its words."""
+    return all(goal > place or must(graph, goal, place)
+               for place, node in enumerate(graph) for goal in goals_of(node))
+
+
+def sets_on_rings(graph, left_out=()):
+    """The sets of nodes that lie on a ring together, as sorted lists."""
+    places = [place for place in range(len(graph)) if place not in left_out]
+    beyond = {}
+    for place in places:
+        beyond[place] = set()
+        for goal in goals_of(graph[place]):
+            beyond[place] |= come_to(graph, goal, left_out)
+    return sorted({tuple(other for other in places if other in beyond[place] and place in beyond[other])
+                   for place in places if place in beyond[place]})
+
+
+def doors(graph, together):
+    """The nodes of a set to which a way goes from outside of it, or at which the run begins."""
+    reached = {goal for place, node in enumerate(graph) if place not in together for goal in goals_of(node)}
+    return [place for place in together if place == 0 or place in reached]
+
+
+def is_way(graph, nodes):
+    return all(after in goals_of(graph[before]) for before, after in zip(nodes, nodes[1:]))
+
+
+def exact(value):
+    """A text that tells values and kinds, so that True is not 1 and a tuple is not a list; a dict's order is free."""
+    if isinstance(value, dict):
+        return "{" + ", ".join(f"{key!r}: {exact(value[key])}" for key in sorted(value, key=repr)) + "}"
+    if isinstance(value, (list, tuple)):
+        inner = ", ".join(exact(thing) for thing in value)
+        return f"[{inner}]" if isinstance(value, list) else f"({inner},)" if len(value) == 1 else f"({inner})"
+    return repr(value)
+
+
+def kept_things(value):
+    """The lists and dicts in a value, however deep."""
+    inner = list(value.values()) if isinstance(value, dict) else value if isinstance(value, (list, tuple)) else []
+    found = [value] if isinstance(value, (list, dict)) else []
+    for thing in inner:
+        found += kept_things(thing)
+    return found
+
+
+def check_fresh(case, function, *given):
+    """Point [2]: what is given stays, what is told is the same each time and made anew, and may be changed."""
+    before = copy.deepcopy(given)
+    one, other = function(*given), function(*given)
+    told = exact(one)
+    case.assertEqual(told, exact(other))
+    case.assertEqual(exact(given), exact(before))
+    things = [kept_things(one), kept_things(other), kept_things(given)]
+    owners = {}
+    for owner, found in enumerate(things):
+        for thing in found:
+            case.assertEqual(owners.setdefault(id(thing), owner), owner, "a list or dict is shared")
+    for thing in kept_things(one):
+        thing.clear()
+    case.assertEqual(exact(other), told)
+    case.assertEqual(exact(given), exact(before))
+    case.assertEqual(exact(function(*given)), told)
+
+
+def plain_worth(operand, memory):
+    return memory.get(operand, 0) if isinstance(operand, str) else operand
+
+
+def plain_made(sign, a, b):
+    """The sum, or None where it is refused; numbers below nought by the words of point [4]."""
+    if sign in ("/", "rest"):
+        if b == 0:
+            return None
+        rest = a - b * (a // b)
+        return rest if sign == "rest" else (a - rest) // b
+    return {"+": a + b, "-": a - b, "&": a & b, "^": (a | b) - (a & b)}[sign]
+
+
+def plain_run(rows, memory, most):
+    """Point [9], row by row."""
+    memory, deeds, place, jumps = dict(memory), [], 0, 0
+    places = {row[0]: place for place, row in enumerate(rows)}
+    while True:
+        row = rows[place]
+        if row[1] == "end":
+            return deeds, "end", memory
+        if row[1] == "jump":
+            place, jumps = places[row[2]], jumps + 1
+            if jumps > len(rows):
+                return deeds, "on", memory
+            continue
+        if len(deeds) == most:
+            return deeds, "on", memory
+        jumps = 0
+        one, sign, other = row[-3:] if row[1] == "sum" else row[2:5]
+        a, b = plain_worth(one, memory), plain_worth(other, memory)
+        place += 1
+        if row[1] == "test":
+            truth = a < b if sign == "<" else a == b
+            deeds.append(("test", a, sign, b, truth))
+            place = places[row[5]] if truth else place
+        else:
+            made = plain_made(sign, a, b)
+            if made is None:
+                return deeds, "fault", memory
+            deeds.append(("sum", row[2], a, sign, b, made))
+            memory[row[2]] = made
+
+
+def plain_graph(rows):
+    """Points [11] and [12], without the bound of [13]: rows as nodes, a ring of jumps by its least row."""
+    places = {row[0]: place for place, row in enumerate(rows)}
+
+    def lands(place):
+        passed = []
+        while rows[place][1] == "jump":
+            if place in passed:
+                return min(passed[passed.index(place):])
+            passed.append(place)
+            place = places[rows[place][2]]
+        return place
+
+    nodes = []
+    for place, row in enumerate(rows):
+        if row[1] == "sum":
+            nodes.append(("sum",) + row[2:] + (lands(place + 1),))
+        elif row[1] == "test":
+            nodes.append(("test",) + row[2:5] + (lands(places[row[5]]), lands(place + 1)))
+        else:
+            nodes.append(("end",) if row[1] == "end" else ("spin",))
+    return renumbered(nodes, lands(0))
