@@ -45,38 +45,76 @@ class Draw:
             return (numbers[place], "jump", self.one_of(numbers))
         return (numbers[place], "end")
 
-    def graph(self, count, tests=6, ends=1, near=None):
-        """A graph of at most so many nodes; of ten about so many are tests, ends or spins; goals lie near, if asked."""
-        nodes = [self.node(place, count, tests, ends, near) for place in range(count)]
-        return renumbered(nodes)
+    def graph(self, count, tests=6, ends=1, goals="any", deep=2):
+        """A graph of just so many nodes; of ten about so many are tests, or ends and spins.
 
-    def node(self, place, count, tests, ends, near):
+        Each node is hung into a free way of an earlier one, the more often into the newest the greater deep is; the ways
+        that are left go to any node, to a near one, or up to one from which the node hangs.
+        """
+        nodes, froms, free = [], [], []
+        for place in range(count):
+            hung = None
+            if place:
+                hung = free.pop(-1 if self.below(deep) else self.below(len(free)))
+                nodes[hung[0]][1][hung[1]] = place
+            froms.append(None if hung is None else hung[0])
+            told, slots = self.node(tests, ends if free or place == count - 1 else 0)
+            nodes.append((told, [None] * slots))
+            free += [(place, slot) for slot in range(slots)]
+        for place, slot in free:
+            nodes[place][1][slot] = self.goal(place, count, froms, goals)
+        return renumbered([told + tuple(slots) for told, slots in nodes])
+
+    def node(self, tests, ends):
         kind = self.below(10)
-        if place and kind < ends:
-            return self.one_of([("end",), ("spin",)])
-        goals = [self.goal(place, count, near) for turn in range(2)]
+        if kind < ends:
+            return self.one_of([("end",), ("spin",)]), 0
         if kind < ends + tests:
-            return ("test",) + self.asked(TEST_SIGNS) + tuple(goals)
-        return ("sum", self.one_of(NAMES)) + self.asked(SUM_SIGNS) + (goals[0],)
+            return ("test",) + self.asked(TEST_SIGNS), 2
+        return ("sum", self.one_of(NAMES)) + self.asked(SUM_SIGNS), 1
 
-    def goal(self, place, count, near):
-        if near is None:
+    def goal(self, place, count, froms, goals):
+        if goals == "mixed":
+            goals = self.one_of(["any", "near", "up", "up", "up", "up", "up"])
+        if goals == "any":
             return self.below(count)
-        return min(count - 1, max(0, place + 1 - near + self.below(2 * near)))
+        if goals == "near":
+            return min(count - 1, max(0, place - 4 + self.below(9)))
+        above = [place]
+        while froms[above[-1]] is not None:
+            above.append(froms[above[-1]])
+        return self.one_of(above)
+
+    def sets_in_a_row(self, count):
+        """The shape of so many sets on rings, one behind another, each come to by two nodes or more, and an end."""
+        shape = []
+        for turn in range(count):
+            size, begin = 2 + self.below(4 if self.below(2) else 8), len(shape)
+            plain = size > 4 or self.below(2)
+            entered = sorted({self.below(size) for door in range(1 + self.below(3))} | {0, size - 1})
+            first = begin + len(entered) - 1
+            shape += led_to([first + door for door in entered], begin)
+            leaving = self.below(size)
+            for place in range(size):
+                goals = [first + (place + 1) % size]
+                goals += [first + size] if place == leaving else [] if plain else [first + self.below(size)]
+                shape.append(tuple(goals))
+        return shape + [()]
 
 
 def drawn_graphs(seed, count, least=1, most=40, **settings):
-    """So many graphs, of sizes between both bounds where the drawing comes to that many."""
+    """So many graphs, of sizes between both bounds."""
     draw = Draw(seed)
     for turn in range(count):
         yield draw.graph(least + draw.below(most - least + 1), **settings)
 
 
-def mixed_graphs(seed, count, most=40):
-    """Graphs of several makings: knotted ones, and ones that look more like programs."""
-    for near in (None, 2, 4, 8):
-        for tests, ends in ((8, 0), (6, 1), (3, 1)):
-            yield from drawn_graphs(seed + tests, count // 12 + 1, 1, most, tests=tests, ends=ends, near=near)
+def mixed_graphs(seed, count, least=1, most=40):
+    """Graphs of several makings, in all so many: knotted ones, and ones that look more like programs."""
+    draw = Draw(seed)
+    for turn in range(count):
+        yield draw.graph(least + draw.below(most - least + 1), 3 + draw.below(7), draw.below(3),
+                         draw.one_of(["any", "near", "up", "mixed"]), 1 + draw.below(4))
 
 
 def every_graph(count):
@@ -159,6 +197,25 @@ def doors(graph, together):
     """The nodes of a set to which a way goes from outside of it, or at which the run begins."""
     reached = {goal for place, node in enumerate(graph) if place not in together for goal in goals_of(node)}
     return [place for place in together if place == 0 or place in reached]
+
+
+def of_shape(shape):
+    """A graph of the goals of its nodes: sums, tests and ends that can be told from one another."""
+    kinds = {0: lambda place: ("end",), 1: lambda place: ("sum", "x", "x", "+", place),
+             2: lambda place: ("test", "x", "<", place)}
+    return renumbered([kinds[len(goals)](place) + tuple(goals) for place, goals in enumerate(shape)])
+
+
+def padded(shape, count):
+    """The shape behind so many sums."""
+    return [(place + 1,) for place in range(count)] + [tuple(goal + count for goal in goals) for goals in shape]
+
+
+def led_to(doors, place):
+    """Tests, of which the first has that place, that lead to all the doors; one fewer than doors."""
+    shape = [(door, place + turn + 1) for turn, door in enumerate(doors[:-1])]
+    shape[-1] = (doors[-2], doors[-1])
+    return shape
 
 
 def is_way(graph, nodes):

@@ -118,6 +118,10 @@ class NumberingTest(unittest.TestCase):
         self.assertEqual(walked([(2,), (0,), ()], [0]), [0, 2])
         self.assertEqual(walked([(2,), (0,), ()], [2]), [2])
 
+    def test_several_starts(self):
+        self.assertEqual(walked([(1,), ()], [0, 1]), [0, 1])
+        self.assertEqual(walked([(1,), ()], [1, 0, 1]), [0, 1])
+
     def test_very_deep(self):
         count = 5000
         self.assertEqual(walked([(place + 1,) for place in range(count)] + [()], [0]), list(range(count + 1)))
