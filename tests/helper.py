@@ -85,6 +85,40 @@ class Draw:
             above.append(froms[above[-1]])
         return self.one_of(above)
 
+    def form(self, count, jumps=4, sums=3, deep=12):
+        """A sound form of about so many statements; the greater jumps is, the more leaves, agains and ends it has."""
+        self.number = self.below(10000)
+        return self.statements(count, (), jumps, sums, deep)
+
+    def statements(self, count, opened, jumps, sums, deep):
+        """Opened are the lines of the rounds and parts within which the statements stand."""
+        told = []
+        while count > 0:
+            kind = self.below(sums + 6) if deep else 0
+            inner = self.below(count)
+            if kind < sums:
+                told.append(("sum", self.one_of(NAMES)) + self.asked(SUM_SIGNS))
+                inner = 0
+            elif kind < sums + 3:
+                yes = self.below(inner + 1)
+                lists = [self.statements(size, opened, jumps, sums, deep - 1) for size in (yes, inner - yes)]
+                told.append(("choice",) + self.asked(TEST_SIGNS) + tuple(lists))
+            else:
+                self.number = (self.number + 3703) % 10000
+                line = ("round" if self.below(2) else "part", self.number)
+                told.append(line + (self.statements(inner, opened + (line,), jumps, sums, deep - 1),))
+            count -= inner + 1
+            if self.below(10) < (jumps if count <= 0 else jumps // 3):
+                told.append(self.jump(opened))
+        return told
+
+    def jump(self, opened):
+        """A leave or an again of one of the rounds and parts, the inner ones more often, or an end."""
+        if not opened or not self.below(8):
+            return ("end",)
+        kind, number = opened[-1] if self.below(2) else self.one_of(opened)
+        return ("again" if kind == "round" and self.below(2) else "leave", number)
+
     def sets_in_a_row(self, count):
         """The shape of so many sets on rings, one behind another, each come to by two nodes or more, and an end."""
         shape = []
@@ -115,6 +149,13 @@ def mixed_graphs(seed, count, least=1, most=40):
     for turn in range(count):
         yield draw.graph(least + draw.below(most - least + 1), 3 + draw.below(7), draw.below(3),
                          draw.one_of(["any", "near", "up", "mixed"]), 1 + draw.below(4))
+
+
+def drawn_forms(seed, count, least=0, most=40):
+    """So many sound forms, of about so many statements each."""
+    draw = Draw(seed)
+    for turn in range(count):
+        yield draw.form(least + draw.below(most - least + 1), draw.below(10), 1 + draw.below(5), 1 + draw.below(14))
 
 
 def every_graph(count):
@@ -327,3 +368,216 @@ def plain_graph(rows):
         else:
             nodes.append(("end",) if row[1] == "end" else ("spin",))
     return renumbered(nodes, lands(0))
+
+
+def lists_of(statement):
+    """The lists of statements that stand in a statement itself."""
+    return {"choice": statement[4:], "round": statement[2:], "part": statement[2:]}.get(statement[0], ())
+
+
+def all_statements(statements):
+    """All statements, however deep, in the order of the text."""
+    told = []
+    for statement in statements:
+        told.append(statement)
+        for inner in lists_of(statement):
+            told += all_statements(inner)
+    return told
+
+
+def lists_within(statements):
+    """How many lists stand within one another, the one that is given among them."""
+    return 1 + max([lists_within(inner) for statement in statements for inner in lists_of(statement)], default=0)
+
+
+def plain_form_lines(statements, ahead=""):
+    """Point [25], statement by statement."""
+    told = []
+    for statement in statements:
+        kind, rest = statement[0], statement[1:]
+        if kind == "sum":
+            told.append(f"{ahead}{rest[0]} = {rest[1]} {rest[2]} {rest[3]}")
+        elif kind == "choice":
+            told.append(f"{ahead}if {rest[0]} {rest[1]} {rest[2]}")
+            told += plain_form_lines(rest[3], ahead + "  ")
+            told += [ahead + "else"] + plain_form_lines(rest[4], ahead + "  ") if rest[4] else []
+            told.append(ahead + "done")
+        elif kind in ("round", "part"):
+            told += [f"{ahead}{kind} {rest[0]}"] + plain_form_lines(rest[1], ahead + "  ") + [ahead + "done"]
+        else:
+            told.append(ahead + " ".join([kind] + [str(number) for number in rest]))
+    return told
+
+
+def plain_sound(form):
+    """Point [23]."""
+    numbers = [statement[1] for statement in all_statements(form) if statement[0] in ("round", "part")]
+    if len(numbers) != len(set(numbers)) or any(number not in range(10000) for number in numbers):
+        return False
+
+    def keeps(statements, rounds, parts):
+        for statement in statements:
+            inner = (rounds, parts)
+            if statement[0] == "leave" and statement[1] not in rounds + parts:
+                return False
+            if statement[0] == "again" and statement[1] not in rounds:
+                return False
+            if statement[0] == "round":
+                inner = (rounds + [statement[1]], parts)
+            if statement[0] == "part":
+                inner = (rounds, parts + [statement[1]])
+            if not all(keeps(within, *inner) for within in lists_of(statement)):
+                return False
+        return True
+
+    return keeps(form, [], [])
+
+
+class Stopped(Exception):
+    """A run of a form that is over, with its word."""
+
+
+def plain_run_form(form, memory, most):
+    """Point [24] by the words of point [22]; a body that is begun twice without a deed between goes on for ever."""
+    memory, deeds, begun = dict(memory), [], set()
+
+    def do_test(one, sign, other):
+        if len(deeds) == most:
+            raise Stopped("on")
+        a, b = plain_worth(one, memory), plain_worth(other, memory)
+        deeds.append(("test", a, sign, b, a < b if sign == "<" else a == b))
+        return deeds[-1][4]
+
+    def do_sum(name, one, sign, other):
+        if len(deeds) == most:
+            raise Stopped("on")
+        a, b = plain_worth(one, memory), plain_worth(other, memory)
+        if plain_made(sign, a, b) is None:
+            raise Stopped("fault")
+        memory[name] = plain_made(sign, a, b)
+        deeds.append(("sum", name, a, sign, b, memory[name]))
+
+    def do_round(number, body):
+        while True:
+            if (number, len(deeds)) in begun:
+                raise Stopped("on")
+            begun.add((number, len(deeds)))
+            gone = do_all(body)
+            if gone not in (None, ("again", number)):
+                return None if gone == ("leave", number) else gone
+
+    def do_all(statements):
+        """Does statements; tells the leave or the again that goes out of them, or None."""
+        for statement in statements:
+            gone = None
+            if statement[0] == "sum":
+                do_sum(*statement[1:])
+            elif statement[0] == "choice":
+                gone = do_all(statement[4] if do_test(*statement[1:4]) else statement[5])
+            elif statement[0] == "round":
+                gone = do_round(*statement[1:])
+            elif statement[0] == "part":
+                gone = do_all(statement[2])
+                gone = None if gone == ("leave", statement[1]) else gone
+            elif statement[0] == "end":
+                raise Stopped("end")
+            else:
+                gone = statement
+            if gone:
+                return gone
+
+    try:
+        do_all(form)
+        return deeds, "end", memory
+    except Stopped as stopped:
+        return deeds, stopped.args[0], memory
+
+
+def nested(lists, kinds=("round", "choice", "part"), innermost=()):
+    """A form of so many lists within one another, of these kinds by turns; sums stand ahead of and behind each."""
+    form = list(innermost)
+    for depth in range(lists - 2, -1, -1):
+        kind = kinds[depth % len(kinds)]
+        if kind == "yes":
+            form = [("choice", "x", "<", depth, form, [])]
+        elif kind == "choice":
+            form = [("choice", "x", "<", depth, [("sum", "x", "x", "+", 1)], form)]
+        else:
+            form = [(kind, depth, form)]
+        form = [("sum", "y", "y", "+", depth)] + form if depth % 7 == 3 else form
+    return form
+
+
+def plain_steps(form):
+    """What is done next, by the words of point [22]: for the form's begin, and for each sum, choice and end in it.
+
+    Told are tuples of goals, one for each way. A goal is (begins, place): the numbers of the rounds whose begins are come
+    to on the way, and how many sums, choices and ends stand ahead of what is done; "last" where the run ends behind the
+    last statement; and where nothing is done any more the frozenset of the begins that are come to again and again.
+    """
+    count = iter(range(10 ** 6))
+
+    def counted(statements):
+        return [(next(count) if statement[0] in ("sum", "choice", "end") else None, statement,
+                 [counted(inner) for inner in lists_of(statement)]) for statement in statements]
+
+    def go(items, place, behind, known, passed):
+        if place == len(items):
+            return behind(passed)
+        number, (kind, *rest), inner = items[place]
+        if number is not None:
+            return (passed, number)
+        if kind in ("leave", "again"):
+            return known[(kind, rest[0])](passed)
+        after, begin, more = opened(items, place, behind, known)
+        return begin(passed)
+
+    def opened(items, place, behind, known):
+        number, (kind, *rest), inner = items[place]
+
+        def after(passed):
+            return go(items, place + 1, behind, known, passed)
+
+        def begin(passed):
+            if kind == "round" and rest[0] in passed:
+                return (passed, frozenset(passed[passed.index(rest[0]):]))
+            passed = passed + [rest[0]] if kind == "round" else passed
+            return go(inner[0], 0, begin if kind == "round" else after, more, passed)
+
+        more = {**known, ("leave", rest[0]): after, ("again", rest[0]): begin} if kind in ("round", "part") else known
+        return after, begin, more
+
+    def visit(items, behind, known):
+        for place, (number, statement, inner) in enumerate(items):
+            after, begin, more = opened(items, place, behind, known) if len(statement) > 1 else (None, None, known)
+            if statement[0] == "sum":
+                steps[number] = (after([]),)
+            if statement[0] == "end":
+                steps[number] = ()
+            if statement[0] == "choice":
+                steps[number] = tuple(go(within, 0, after, known, []) for within in inner)
+            for within in inner:
+                visit(within, begin if statement[0] == "round" else after, more)
+
+    def finish(passed):
+        return (passed, "last")
+
+    steps, items = {}, counted(form)
+    visit(items, finish, {})
+    return go(items, 0, finish, {}, []), [steps[number] for number in range(len(steps))]
+
+
+def plain_form_graph(form):
+    """The graph of a form's rows, without its rows."""
+    start, steps = plain_steps(form)
+    told = [statement for statement in all_statements(form) if statement[0] in ("sum", "choice", "end")]
+    goals = sorted({place for begins, place in [start] + [goal for step in steps for goal in step]}, key=str)
+    keys = list(range(len(told))) + [goal for goal in goals if goal == "last" or isinstance(goal, frozenset)]
+    nodes = []
+    for key in keys:
+        if isinstance(key, int):
+            statement = ("test",) + told[key][1:4] if told[key][0] == "choice" else told[key]
+            nodes.append(statement + tuple(keys.index(place) for begins, place in steps[key]))
+        else:
+            nodes.append(("end",) if key == "last" else ("spin",))
+    return renumbered(nodes, keys.index(start[1]))
