@@ -49,7 +49,7 @@ class Draw:
         """A graph of just so many nodes; of ten about so many are tests, or ends and spins.
 
         Each node is hung into a free way of an earlier one, the more often into the newest the greater deep is; the ways
-        that are left go to any node, to a near one, or up to one from which the node hangs.
+        that are left go to any node, on to a later one, to a near one, or up to one from which the node hangs.
         """
         nodes, froms, free = [], [], []
         for place in range(count):
@@ -78,6 +78,8 @@ class Draw:
             goals = self.one_of(["any", "near", "up", "up", "up", "up", "up"])
         if goals == "any":
             return self.below(count)
+        if goals == "on" and place < count - 1:
+            return place + 1 + self.below(min(count - place - 1, 1 + self.below(count)))
         if goals == "near":
             return min(count - 1, max(0, place - 4 + self.below(9)))
         above = [place]
@@ -156,6 +158,52 @@ def drawn_forms(seed, count, least=0, most=40):
     draw = Draw(seed)
     for turn in range(count):
         yield draw.form(least + draw.below(most - least + 1), draw.below(10), 1 + draw.below(5), 1 + draw.below(14))
+
+
+def every_form(count):
+    """Each sound form of just so many statements, all sums and all tests alike, numbers in the order of their lines."""
+    for form, number in every_list(count, (), (), 0):
+        yield form
+
+
+def every_list(count, rounds, parts, number):
+    """Lists of statements within these rounds and parts, each with the next number that is free."""
+    if count == 0:
+        yield [], number
+    for size in range(1, count + 1):
+        for first, after in every_statement(size, rounds, parts, number):
+            for rest, last in every_list(count - size, rounds, parts, after):
+                yield [first] + rest, last
+
+
+def every_statement(count, rounds, parts, number):
+    if count == 1:
+        plain = [("sum", "x", "x", "+", 1), ("end",)] + [("again", one) for one in rounds]
+        for statement in plain + [("leave", one) for one in rounds + parts]:
+            yield statement, number
+    for size in range(count):
+        for yes, after in every_list(size, rounds, parts, number):
+            for no, last in every_list(count - 1 - size, rounds, parts, after):
+                yield ("choice", "x", "<", 3, yes, no), last
+    for body, last in every_list(count - 1, rounds + (number,), parts, number + 1):
+        yield ("round", number, body), last
+    for body, last in every_list(count - 1, rounds, parts + (number,), number + 1):
+        yield ("part", number, body), last
+
+
+def orderly_graphs(seed, count, least=1, most=40):
+    """So many orderly graphs of several makings, those of drawn forms among them."""
+    draw, told = Draw(seed), 0
+    while told < count:
+        size = least + draw.below(most - least + 1)
+        if draw.below(3):
+            kinds = (3 + draw.below(7), draw.below(3), draw.one_of(["on", "up", "near", "mixed", "on"]), 1 + draw.below(4))
+            graph = draw.graph(size, *kinds)
+        else:
+            graph = plain_form_graph(draw.form(2 * size, draw.below(6), 1 + draw.below(4), 1 + draw.below(14)))
+        if least <= len(graph) <= most and is_orderly(graph):
+            told += 1
+            yield graph
 
 
 def every_graph(count):
@@ -581,3 +629,62 @@ def plain_form_graph(form):
         else:
             nodes.append(("end",) if key == "last" else ("spin",))
     return renumbered(nodes, keys.index(start[1]))
+
+
+def has_within(statements, line):
+    """Whether a leave or an again stands somewhere in the statements."""
+    return line in all_statements(statements)
+
+
+def goes_on(statements):
+    """Whether one goes on behind a list, by the words of point [28]."""
+    if statements == []:
+        return True
+    kind, *rest = statements[-1]
+    if kind == "choice":
+        return goes_on(rest[3]) or goes_on(rest[4])
+    if kind == "round":
+        return has_within(rest[1], ("leave", rest[0]))
+    if kind == "part":
+        return has_within(rest[1], ("leave", rest[0])) or goes_on(rest[1])
+    return kind == "sum"
+
+
+def at_tail(statements):
+    """What stands at the tail of a list."""
+    if statements == []:
+        return []
+    last = statements[-1]
+    return [last] + (at_tail(last[4]) + at_tail(last[5]) if last[0] == "choice" else [])
+
+
+def all_lists(statements):
+    """The list itself, and all within."""
+    return [statements] + [inner for statement in all_statements(statements) for inner in lists_of(statement)]
+
+
+def untidy(form):
+    """What of point [28] doesn't hold, as a list of words."""
+    faults = []
+    for statements in all_lists(form):
+        if any(not goes_on(statements[:count]) for count in range(1, len(statements))):
+            faults.append("behind")
+    numbers = []
+    for kind, *rest in all_statements(form):
+        if kind in ("round", "part"):
+            numbers.append(rest[0])
+        if kind == "part":
+            faults += [] if has_within(rest[1], ("leave", rest[0])) else ["part without a leave"]
+            faults += ["leave at the tail"] if ("leave", rest[0]) in at_tail(rest[1]) else []
+            faults += ["part of a round"] if [inner[0] for inner in rest[1]] == ["round"] else []
+        if kind == "round":
+            again = goes_on(rest[1]) or has_within(rest[1], ("again", rest[0]))
+            faults += [] if again else ["round without again"]
+            faults += ["again at the tail"] if ("again", rest[0]) in at_tail(rest[1]) else []
+    return faults + ([] if numbers == list(range(len(numbers))) else ["numbers"])
+
+
+def count_kinds(form):
+    """How many statements of each kind a form has."""
+    kinds = [statement[0] for statement in all_statements(form)]
+    return {kind: kinds.count(kind) for kind in ("sum", "choice", "round", "part", "leave", "again", "end")}

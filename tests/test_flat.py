@@ -2,8 +2,8 @@
 
 import unittest
 
-from helper import (Draw, all_statements, check_fresh, drawn_forms, exact, is_orderly, nested, plain_form_graph,
-                    plain_graph, plain_run, plain_run_form, plain_steps)
+from helper import (Draw, all_statements, check_fresh, drawn_forms, every_form, exact, is_orderly, nested,
+                    plain_form_graph, plain_graph, plain_run, plain_run_form, plain_steps)
 from unjump.flat import rows_of
 from unjump.formtexts import read_form
 from unjump.graphs import graph_of
@@ -181,8 +181,13 @@ class RowsTest(FlatCase):
             sizes.append(len(plain_graph(self.check(form, ({}, {"x": -2, "y": 3})))))
         self.assertGreater(len([size for size in sizes if size > 12]), 100)
 
+    def test_every_small_form(self):
+        for count in range(5):
+            for form in every_form(count):
+                self.check(form, ({},))
+
     def test_small_drawn_forms(self):
-        for form in drawn_forms(83, 2500, 0, 9):
+        for form in drawn_forms(83, 1500, 4, 10):
             self.check(form, ({},))
 
     def test_what_is_given_stays(self):

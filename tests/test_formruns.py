@@ -2,7 +2,7 @@
 
 import unittest
 
-from helper import Draw, check_fresh, drawn_forms, exact, nested, plain_run_form
+from helper import Draw, check_fresh, drawn_forms, every_form, exact, nested, plain_run_form
 from unjump.formruns import run_form
 from unjump.formtexts import read_form
 
@@ -158,6 +158,12 @@ class RunTest(unittest.TestCase):
 
     def test_great_numbers(self):
         self.assertEqual(run_form([("round", 0, [("sum", "x", "x", "+", "x")])], {"x": -1}, 900)[2], {"x": -2 ** 900})
+
+    def test_every_small_form(self):
+        for count in range(5):
+            for form in every_form(count):
+                for memory, most in (({}, 0), ({}, 7), ({"x": 3}, 2)):
+                    self.assertEqual(exact(run_form(form, memory, most)), exact(plain_run_form(form, memory, most)), form)
 
     def test_against_the_plainest_way(self):
         draw = Draw(77)

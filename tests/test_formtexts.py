@@ -2,7 +2,7 @@
 
 import unittest
 
-from helper import Draw, check_fresh, drawn_forms, exact, lists_within, nested, plain_form_lines
+from helper import Draw, check_fresh, drawn_forms, every_form, exact, lists_within, nested, plain_form_lines
 from unjump import errors
 from unjump.formtexts import read_form, written_form
 
@@ -299,6 +299,11 @@ class WritingTest(unittest.TestCase):
             self.check([("sum", "a", "b", sign, -3)], f"a = b {sign} -3")
         for sign in ("<", "="):
             self.check([("choice", -3, sign, "b", [], [])], f"if -3 {sign} b\ndone")
+
+    def test_every_small_form(self):
+        for count in range(5):
+            for form in every_form(count):
+                self.assertEqual(exact(read_form(written_form(form))), exact(form))
 
     def test_drawn_ones(self):
         for form in drawn_forms(74, 400):
